@@ -1,0 +1,1 @@
+"""Playsense: what a program means, told by plays."""
