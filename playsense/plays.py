@@ -103,8 +103,8 @@ def open_asks(play):
     return tuple(waiting)
 
 
-def _steps_to(kind, play, back):
-    """All steps with a back that could stand behind a play, were it not for the rules."""
+def steps_to(kind, play, back):
+    """All steps that answer to an ask of a play, by their places, whatever else the rules say."""
     word, place = play[back][0]
     if word != "ask":
         return []
@@ -117,7 +117,7 @@ def steps_after(kind, play):
     if len(play) == 0:
         return (BEGINNING,)
     waiting = open_asks(play)
-    steps = [step for back in _sight_behind(play) for step in _steps_to(kind, play, back)]
+    steps = [step for back in _sight_behind(play) for step in steps_to(kind, play, back)]
     return tuple(sorted([step for step in steps if _reason_against(kind, play, waiting, step) is None]))
 
 

@@ -353,3 +353,17 @@ def add_rows(rows, kind, body, sight, calls):
         for i, argument in enumerate(arguments):
             asked = place + (k, i)
             add_rows(rows, kind, argument[2], behind + ((("ask", asked), n),), calls + ((n + 1, asked),))
+
+
+def alone_by_rule(play, numbers):
+    return tuple(
+        (play[n][0], None if play[n][1] is None else numbers.index(play[n][1])) for n in numbers
+    )
+
+
+def reply_by_rule(strategy, play):
+    sight = program_sight_by_rule(play)
+    for row, (move, back) in strategy[2]:
+        if row == alone_by_rule(play, sight):
+            return (move, sight[back])
+    return None

@@ -3,7 +3,7 @@
 import unittest
 
 from oracles import (
-    BEGINNING, BINARY, KINDS, LONG, O, ONE, THREE, TWO, ask, legal_plays, program_sight_by_rule, say, some_plays,
+    BEGINNING, BINARY, KINDS, LONG, O, ONE, THREE, TWO, ask, legal_plays, reply_by_rule, say, some_plays,
     some_programs, steps_by_trying,
 )
 from playsense.normal import normal
@@ -21,14 +21,6 @@ ASKED = (BEGINNING, ask((0,), 0))
 NOT = strategy_of(ONE, "fun x: o. if x then 0 else 1")
 TWICE = strategy_of(TWO, "fun f: o -> o. f (f 1)")
 STOP = ("strategy", TWO, ())
-
-
-def reply_by_rule(strategy, play):
-    sight = program_sight_by_rule(play)
-    for row, (move, back) in strategy[2]:
-        if row == alone(play, sight):
-            return (move, sight[back])
-    return None
 
 
 class ReplyTest(unittest.TestCase):
